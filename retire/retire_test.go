@@ -124,8 +124,7 @@ func TestBring(t *testing.T) {
 
 // P20.3: Drain, by hand.
 func TestDrain(t *testing.T) {
-	c := of(2, []api.Way{{Line: 0, Data: data('a')}, {Line: 16, Data: data('b')}, {Line: 32}}[:2], []api.Way{{Line: 48}}[:0])
-	c.Sets = c.Sets[:1]
+	c := of(2, []api.Way{{Line: 0, Data: data('a')}, {Line: 16, Data: data('b')}})
 	for _, x := range []struct {
 		name   string
 		stores []api.Put
