@@ -107,7 +107,7 @@ func TestRight(t *testing.T) {
 		"memory of 512":     func(c *api.Core) { c.Mem = strings.Repeat("x", 512) },
 		"entries":           func(c *api.Core) { c.Rob = []api.Entry{{No: 2, Inst: slow.Inst}, {No: 1, Inst: slow.Inst}} },
 		"an entry":          func(c *api.Core) { c.Rob = []api.Entry{{No: 2, Inst: slow.Inst, Is: api.EGoes}} },
-		"more than Rob":     func(c *api.Core) { c.Conf.Rob = 2; c.Rob = still(shape(), slow, slow, slow).Rob },
+		"more than Rob":     func(c *api.Core) { c.Conf.Rob = 2; c.Rob = still(shape(), slow, slow, slow).Rob; c.Next = 20 },
 		"Next the last":     func(c *api.Core) { c.Rob = still(shape(), slow, slow).Rob; c.Next = 2 },
 		"Next below":        func(c *api.Core) { c.Rob = still(shape(), slow, slow).Rob; c.Next = -5 },
 		"data":              func(c *api.Core) { c.Data.Sets = [][]api.Way{{{Line: 8}}} },
@@ -151,6 +151,36 @@ func TestRight(t *testing.T) {
 	}
 	if got := core.Step(c); got.Cycle != math.MinInt {
 		t.Errorf("cycle %d", got.Cycle)
+	}
+}
+
+// withRoom is a list with room behind it, filled with one that no test asks for.
+func withRoom[T any](l []T, odd T) []T {
+	out := append(slices.Clone(l), odd, odd, odd)
+	return out[:len(l)]
+}
+
+// R4: Step writes neither into the lists that it is handed nor behind them.
+func TestStepKeeps(t *testing.T) {
+	c := still(shape(), done(add(1, 0, 0), 5), done(at(store(0, 0, 0), 8), 7), add(2, 0, 0), add(3, 0, 0))
+	c.Prog = []uint32{0x00500093, 0x00500093, 0x00500093, 0x00500093}
+	c.Stop, c.Fetch = false, 8
+	c.Words.Sets[0] = []api.Way{{Line: 0}}
+	c.Rob = withRoom(c.Rob, api.Entry{No: 99})
+	c.Fetched = withRoom([]api.Fetched{{PC: 0, Guess: 4}}, api.Fetched{PC: 99})
+	c.Stores = withRoom([]api.Put{{Addr: 4, Data: "abcd"}}, api.Put{Addr: 99})
+	c.Retired = withRoom([]api.Step{{PC: 96}}, api.Step{PC: 99})
+	c.Bus = withRoom([]api.Request{{Kind: api.RWrite, Line: 16, Left: 5}}, api.Request{Kind: 99})
+	rob, fetched, stores, retired, bus := slices.Clone(c.Rob), slices.Clone(c.Fetched), slices.Clone(c.Stores), slices.Clone(c.Retired), slices.Clone(c.Bus)
+	got := step(t, c)
+	if len(got.Retired) != 3 || len(got.Stores) != 2 || len(got.Bus) != 2 || len(got.Fetched) != 2 || len(got.Rob) != 3 {
+		t.Fatalf("it does not do what the test asks for: %+v", got)
+	}
+	if !slices.Equal(c.Rob, rob) || !slices.Equal(c.Fetched, fetched) || !slices.Equal(c.Stores, stores) || !slices.Equal(c.Retired, retired) || !slices.Equal(c.Bus, bus) {
+		t.Error("a list is written into")
+	}
+	if c.Rob[:5][4].No != 99 || c.Fetched[:2][1].PC != 99 || c.Stores[:2][1].Addr != 99 || c.Retired[:2][1].PC != 99 || c.Bus[:2][1].Kind != 99 {
+		t.Error("a list is written behind")
 	}
 }
 

@@ -139,6 +139,10 @@ func TestNextReturns(t *testing.T) {
 			t.Errorf("%+v: %d", i, got)
 		}
 	}
+	g.Returns = []uint32{60}
+	if got := guess.Next(g, 8, goBack); got != 60 {
+		t.Errorf("returns to the only one: %d", got)
+	}
 	g.Returns = nil
 	if got := guess.Next(g, 8, goBack); got != 1000 {
 		t.Errorf("returns to none: %d", got)

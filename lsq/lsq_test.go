@@ -130,6 +130,8 @@ func TestDecideEntries(t *testing.T) {
 		{"a half of a half", []api.Entry{store(api.Sh, 10, api.EDone, 0xffff0201), load(api.Lhu, 10)}, nil, api.LTake, "\x01\x02"},
 		{"a byte of a byte", []api.Entry{store(api.Sb, 10, api.EDone, 0xffffff01), load(api.Lb, 10)}, nil, api.LTake, "\x01"},
 		{"a load ahead is no store", []api.Entry{{Inst: api.Inst{Op: api.Lw}}, {Inst: api.Inst{Op: api.Beq}}, lw}, nil, api.LMem, ""},
+		{"a load ahead of the same place is none", []api.Entry{{Inst: api.Inst{Op: api.Lw}, Known: true, Addr: 8, Is: api.EDone, Value: 9}, {Inst: api.Inst{Op: api.Lb}, Addr: 8}, lw}, nil, api.LMem, ""},
+		{"a load between", []api.Entry{store(api.Sw, 8, api.EDone, 5), {Inst: api.Inst{Op: api.Lw}, Known: true, Addr: 8, Is: api.EDone, Value: 9}, lw}, nil, api.LTake, "\x05\x00\x00\x00"},
 		{"places do not go round", []api.Entry{store(api.Sw, 0xfffffffe, api.EDone, 5), load(api.Lb, 0)}, nil, api.LMem, ""},
 		{"at the end of numbers", []api.Entry{store(api.Sw, 0xfffffffc, api.EDone, 0x09000000), load(api.Lb, 0xffffffff)}, nil, api.LTake, "\x09"},
 	})

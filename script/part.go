@@ -9,8 +9,6 @@ import (
 const (
 	hexDigits  = "0123456789abcdef"
 	wordDigits = 8
-	// Numbers of more digits are beyond all that a plan may have.
-	mostDigits = 9
 )
 
 func readMode(s string) (int, bool) {
@@ -48,9 +46,6 @@ func writeTables(tables bool) string {
 
 // readNumber takes a number only as it is written: no sign, no 0 ahead.
 func readNumber(s string) (int, bool) {
-	if len(s) > mostDigits {
-		return 0, false
-	}
 	n, err := strconv.Atoi(s)
 	return n, err == nil && n >= 0 && strconv.Itoa(n) == s
 }

@@ -12,7 +12,7 @@ import (
 )
 
 // odd are places and sizes at and beyond the edges.
-var odd = []int{math.MinInt, math.MinInt32, -33, -32, -31, -2, -1, 0, 1, 2, 3, 7, 8, 15, 16, 30, 31, 32, 33, 63, 64, 65, 1 << 32, 1<<32 + 1, math.MaxInt32, math.MaxInt - 31, math.MaxInt}
+var odd = []int{math.MinInt, math.MinInt32, -33, -32, -31, -2, -1, 0, 1, 2, 3, 4, 5, 6, 7, 8, 15, 16, 30, 31, 32, 33, 63, 64, 65, 1 << 32, 1<<32 + 1, math.MaxInt32, math.MaxInt - 31, math.MaxInt}
 
 func someWords() []uint32 {
 	r := rand.New(rand.NewSource(1))
